@@ -5,6 +5,7 @@ from logdelve.errors import BadText
 NUMBER = "number"
 WORD = "word"
 FLAG = "flag"
+SORTS = (NUMBER, WORD, FLAG)
 
 LETTERS = "abcdefghijklmnopqrstuvwxyz"
 FIGURES = "0123456789"
@@ -50,6 +51,12 @@ def sort_of(value):
     if isinstance(value, str) and is_word(value):
         return WORD
     return None
+
+
+def likeness(value):
+    """Tell a key that is the same for like values alone (and for lacking ones, which are None)."""
+    # True equals 1 for Python, but yes is not like 1.
+    return isinstance(value, bool), value
 
 
 def value_text(value):

@@ -22,6 +22,17 @@ BARRED_NODES = (
     ast.Global, ast.AsyncFunctionDef, ast.AsyncFor, ast.AsyncWith, ast.Await, ast.NamedExpr, ast.Div,
     ast.Import, ast.TryStar,
 )
+CALLED_METHODS = set(
+    "append clear copy count endswith extend find get index insert isalnum isalpha isdigit islower isspace isupper items "
+    "join keys ljust lower lstrip partition pop remove replace reverse rfind rjust rpartition rsplit rstrip setdefault "
+    "split splitlines startswith strip update upper values zfill bit_length title capitalize swapcase casefold center "
+    "removeprefix removesuffix rindex isascii isdecimal isnumeric istitle isidentifier isprintable".split()
+)
+BARRED_NAMES = set(
+    "register mro elements open input version_info with_traceback add_note attrgetter breakpoint builtins compile "
+    "copyright credits delattr dir eval exec exit gc getattr globals hasattr help id importlib license locals "
+    "methodcaller os quit setattr vars sys format format_map".split()
+)
 MODULE_NODES = (ast.Expr, ast.ImportFrom, ast.FunctionDef, ast.ClassDef, ast.Assign)
 SET_NODES = (ast.Set, ast.SetComp)
 
@@ -134,3 +145,62 @@ class Shape(unittest.TestCase):
                     with self.subTest(f"{name} {node.lineno}"):
                         self.assertIsInstance(part, ast.Constant)
                         self.assertIn(part.value, (None, True, False))
+
+    def test_no_name_that_is_barred(self):
+        for name, node in nodes(ast.Name, ast.FunctionDef, ast.ClassDef, ast.arg, ast.Attribute):
+            with self.subTest(f"{name} {node.lineno}"):
+                self.assertFalse(BARRED_NAMES.intersection(bound_names(node)))
+
+    def test_methods_that_are_called(self):
+        own = {node.name for name, tree in nodes(ast.ClassDef) for node in ast.walk(tree) if isinstance(node, ast.FunctionDef)}
+        for name, node in nodes(ast.Call):
+            if isinstance(node.func, ast.Attribute):
+                with self.subTest(f"{name} {node.lineno}"):
+                    self.assertIn(node.func.attr, own | CALLED_METHODS)
+
+    def test_no_name_is_a_method_and_an_attribute(self):
+        methods = {node.name for name, tree in nodes(ast.ClassDef) for node in ast.walk(tree) if isinstance(node, ast.FunctionDef)}
+        attributes = {node.attr for name, node in nodes(ast.Attribute) if isinstance(node.ctx, ast.Store)}
+        self.assertEqual(methods & attributes, set())
+
+    def test_one_meaning_for_each_name(self):
+        for name, tree in trees():
+            imports = [told.name for node in tree.body if isinstance(node, ast.ImportFrom) for told in node.names]
+            classes = [node.name for node in tree.body if isinstance(node, ast.ClassDef)]
+            functions = [node.name for node in tree.body if isinstance(node, ast.FunctionDef)]
+            assigned = [node.targets[0].id for node in tree.body if isinstance(node, ast.Assign)]
+            told = [*imports, *classes, *functions, *assigned]
+            self.assertEqual(len(told), len(set(told)), name)
+            for node in ast.walk(tree):
+                if isinstance(node, ast.arg) or isinstance(node, ast.Name) and isinstance(node.ctx, ast.Store):
+                    with self.subTest(f"{name} {node.lineno}"):
+                        self.assertFalse({*imports, *classes}.intersection(bound_names(node)))
+
+    def test_no_two_files_import_from_each_other(self):
+        ahead = {}
+        for name, tree in trees():
+            found = [node.module for node in tree.body if isinstance(node, ast.ImportFrom)]
+            ahead["logdelve." + name.removesuffix(".py")] = found
+        while ahead:
+            free = [name for name in ahead if not [other for other in ahead[name] if other in ahead]]
+            self.assertTrue(free, sorted(ahead))
+            for name in free:
+                del ahead[name]
+
+    def test_each_import_names_the_file_that_defines_the_name(self):
+        defined = {}
+        for name, tree in trees():
+            told = [node.name for node in tree.body if isinstance(node, (ast.FunctionDef, ast.ClassDef))]
+            told += [node.targets[0].id for node in tree.body if isinstance(node, ast.Assign)]
+            defined["logdelve." + name.removesuffix(".py")] = told
+        for name, node in nodes(ast.ImportFrom):
+            for told in node.names:
+                with self.subTest(f"{name} {told.name}"):
+                    self.assertIn(told.name, defined[node.module])
+
+    def test_each_import_is_used(self):
+        for name, tree in trees():
+            used = {node.id for node in ast.walk(tree) if isinstance(node, ast.Name)}
+            for node in tree.body:
+                if isinstance(node, ast.ImportFrom):
+                    self.assertLessEqual({told.name for told in node.names}, used, name)

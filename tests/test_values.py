@@ -4,7 +4,7 @@ import string
 import unittest
 
 from logdelve.errors import BadText
-from logdelve.values import FLAG, NUMBER, WORD, is_name, is_word, read_value, sort_of, value_text
+from logdelve.values import FLAG, NUMBER, WORD, is_name, is_word, likeness, read_value, sort_of, value_text
 
 KEPT_WORDS = "and or not has yes no by up down count sum least most unlike all within".split()
 GREATEST = 10 ** 30 - 1
@@ -43,6 +43,15 @@ class Sorts(unittest.TestCase):
         for value in (None, [], [1], ["ann"], (), (1, 2), {}, {"a": 1}, b"ann"):
             with self.subTest(value):
                 self.assertIsNone(sort_of(value))
+
+
+class Likeness(unittest.TestCase):
+    def test_like_values_alone_have_it_in_common(self):
+        values = (0, 1, -1, GREATEST, False, True, "a", "ann", "yes", None)
+        for one, left in enumerate(values):
+            for other, right in enumerate(values):
+                with self.subTest(f"{left} {right}"):
+                    self.assertIs(likeness(left) == likeness(right), one == other)
 
 
 class Words(unittest.TestCase):
