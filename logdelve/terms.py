@@ -2,12 +2,13 @@
 
 from logdelve.errors import BadText
 from logdelve.signs import END, MARK, NAME, Reader
-from logdelve.values import FLAG, NUMBER, WORD, value_text
+from logdelve.values import FLAG, NUMBER, SORTS, WORD, value_text
 
 # Terms without parts of their own.
 LEAVES = ("number", "word", "flag", "field", "has")
+COMPARISONS = ("=", "!=", "<", "<=", ">", ">=")
 # The signs that join terms, from the loosest to the tightest; leaves are tighter than all of them.
-LEVELS = (("or",), ("and",), ("not",), ("=", "!=", "<", "<=", ">", ">="), ("+", "-"), ("*",))
+LEVELS = (("or",), ("and",), ("not",), COMPARISONS, ("+", "-"), ("*",))
 NOT_LEVEL = 2
 COMPARISON_LEVEL = 3
 LEAF_LEVEL = 6
@@ -125,6 +126,11 @@ def fields_in(term):
         if part[0] in ("field", "has"):
             names[part[1]] = True
     return list(names)
+
+
+def is_plain_comparison(term):
+    """Tell whether a term compares a field, on the left, with a written value."""
+    return term[0] in COMPARISONS and term[1][0] == "field" and term[2][0] in SORTS
 
 
 def built_up(term, told_of):
