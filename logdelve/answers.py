@@ -1,8 +1,9 @@
 """Answers to questions, their fields and their reasons, by stored rows and kept questions."""
 
 from logdelve.checks import sorts_behind
-from logdelve.errors import BadStage, NoName, NoRow
-from logdelve.questions import KEPT
+from logdelve.errors import BadStage, NoRow
+from logdelve.leaning import chain_of, leans_on
+from logdelve.places import order_of
 from logdelve.stages import source_rows, stage_rows
 
 
@@ -29,7 +30,7 @@ def reasons_of(question, at, rows, *, sources, kinds, kept, since=None, until=No
 
 def fields_of(question, *, sources, kinds, kept):
     """Check a question and tell the fields of its answer with their sorts."""
-    *others, last = leaning(question, kept)
+    *others, last = chain_of(question, kept)
     sorts = {}
     for other in others:
         try:
@@ -40,35 +41,17 @@ def fields_of(question, *, sources, kinds, kept):
     return sorts_behind(last, sources, kinds, sorts)
 
 
-def leaning(question, kept):
-    """Tell the questions that lean on one another, from the one on which all lean to the one asked."""
-    chain = [question]
-    name = leans_on(question)
-    while name is not None:
-        if name not in kept:
-            raise NoName()
-        chain.append(kept[name])
-        name = leans_on(kept[name])
-    return chain[::-1]
-
-
-def leans_on(question):
-    """Tell the name of the kept question on which a question leans straight, or None."""
-    names = question[0][1]
-    return names[1] if names and names[0] == KEPT else None
-
-
 def rows_between(rows, since, until):
     """Tell the rows of since or later and below until, in order; None is no bound."""
     told = [row for row in rows if (since is None or row[0] >= since) and (until is None or row[0] < until)]
     # The fields have no order of their own, and need none: no two rows share source and number.
-    return sorted(told, key=lambda row: row[:3])
+    return sorted(told, key=order_of)
 
 
 def answer_rows(question, stored, kept):
     """Tell the rows of an answer with their reasons, by the rows that may be read, in order."""
     pairs = []
-    for one in leaning(question, kept):
+    for one in chain_of(question, kept):
         if leans_on(one) is None:
             pairs = source_rows(one[0][1], stored)
         for stage in one[1:]:

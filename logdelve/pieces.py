@@ -45,6 +45,18 @@ def stored_rows(pieces):
     return [row for piece in pieces for row in piece.stored]
 
 
+def pieces_behind(pieces, exchanges, size):
+    """Tell the pieces behind exchanges, pairs of an elder row and a newer one; None where there is none."""
+    for elder, newer in exchanges:
+        if elder is None:
+            pieces = with_row(pieces, newer, size)
+        elif newer is None:
+            pieces = without_row(pieces, elder)
+        else:
+            pieces = exchanged_row(pieces, newer)
+    return pieces
+
+
 def with_row(pieces, row, size):
     """Tell the pieces with one more row in its place."""
     if not pieces:

@@ -13,6 +13,12 @@ def flat(row):
     return {**fields, "time": time, "source": source, "number": number}
 
 
+def copied(row):
+    """Tell the same row with a dict of its own."""
+    time, source, number, fields = row
+    return time, source, number, dict(fields)
+
+
 def row_text(row):
     """Write a row."""
     time, source, number, fields = row

@@ -1,11 +1,15 @@
-"""What several tests use: faults' places, kinds of values, questions asked, and a plain model of the stages.
+"""What several tests use: faults' places, kinds of values, questions asked, a plain model of the stages, filled stores.
 
 The model reads the document word by word, without any regard to speed, so that it goes other ways than the program.
 """
 
+import unittest
+
 from logdelve.answers import answer_of, fields_of, reasons_of
 from logdelve.errors import BadText
+from logdelve.pages import store_lines
 from logdelve.questions import read_question
+from logdelve.store import Store
 from logdelve.worths import worth_of
 
 SOURCES = ["app", "db_two", "web"]
@@ -208,3 +212,71 @@ MODELS = {
     "where": model_where, "with": model_with, "keep": model_keep, "drop": model_drop, "sort": model_sort,
     "first": model_first, "every": model_every, "sessions": model_sessions, "fold": model_fold,
 }
+
+
+PLAIN_TELLERS = (
+    "rows", "sources", "kinds", "floors", "holds", "struck", "indexes", "saves", "stands", "undoable", "redoable", "pieces",
+)
+
+
+def all_told(store):
+    """Tell all that a store tells of itself, but for answers, so that two such things can be compared."""
+    told = {name: getattr(store, name)() for name in PLAIN_TELLERS}
+    told["len"] = len(store)
+    told["summaries"] = [store.summary(at) for at in range(len(told["pieces"]))]
+    flat = [model_flat(row)[0] for row in told["rows"]]
+    for field in told["indexes"]:
+        for value in {row[field] for row in flat if field in row}:
+            told[field, value] = store.looked_up(field, value)
+    for name, ignored in told["stands"]:
+        # A twin is asked, as asking changes what was told last.
+        told["changes", name] = store.twin().changes(name)
+    told["lines"] = store_lines(store)
+    return kind_and_value([[str(key), value] for key, value in sorted(told.items(), key=str)])
+
+
+def filled_store(size=3):
+    """Tell a store that has something of everything; its last deed but one is a tidy, its last one is taken back."""
+    store = Store(size=size)
+    for name in ("web", "app", "db_two", "old"):
+        store.source(name)
+    for name, sort in KINDS.items():
+        store.field(name, sort=sort)
+    for at in range(7):
+        store.add((10 * at, "web", at, {"took": at * at, "user": "ann" if at % 2 else "bob"}))
+    store.batch([(25, "app", at, {"done": at == 1}) for at in range(3)])
+    store.add((1, "old", 0, {}))
+    store.add((5, "old", 1, {"took": 1}))
+    store.floor("old", 3)
+    store.strike("web", 3)
+    store.amend("web", 5, {"took": 77, "user": "cid", "done": True})
+    store.hold("keeper", "web")
+    store.hold("later", "web")
+    store.add_index("took")
+    store.add_index("source")
+    store.save("slow", "from all | where took > 10")
+    store.save("by_user", "from @slow | fold many = count by user")
+    store.stand("watch", "from @by_user")
+    store.stand("every_row", "from all | keep time source number took")
+    store.tidy()
+    store.source("zebra")
+    store.undo()
+    return store
+
+
+class Watched(unittest.TestCase):
+    """Stores at which deeds are done and refused."""
+
+    def check_refused(self, store, error, deed, fields=None):
+        """Check that a deed, a function of the store, is refused so, and that nothing changed."""
+        before = all_told(store)
+        with self.assertRaises(error) as caught:
+            deed(store)
+        self.assertIs(type(caught.exception), error)
+        for name, value in (fields or {}).items():
+            self.assertEqual(kind_and_value(getattr(caught.exception, name)), kind_and_value(value))
+        self.assertEqual(all_told(store), before)
+
+    def check_alike(self, told, wanted):
+        """Check values with their kinds, so that True is not 1."""
+        self.assertEqual(kind_and_value(told), kind_and_value(wanted))
